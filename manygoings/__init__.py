@@ -1,0 +1,1 @@
+"""Manygoings: one pile kept in pieces, gone on with many times."""
