@@ -12,25 +12,52 @@ INTERFACE = {
                "read_pile": 1},
     "papers": {"is_paper": 2, "opened": 2, "holders": 1, "kept": 1, "spots": 1},
     "tight": {"tight": 2},
+    "pictures": {"is_picture": 1, "things": 1, "roots": 1, "holds": 2},
+    "rings": {"reached": 1, "lost": 1, "is_way": 2, "is_shut": 2, "way_to": 2, "lost_ring": 1, "swept": 1},
+    "copies": {"Copies": 0, "copied": 1},
+    "pieces": {"Pieces": 1, "laid": 2},
 }
+# What each method takes beside its object, and how much of that may be left out.
+DEEDS = {"put": (1, 0), "take": (1, 1), "lift": (1, 0), "look": (1, 1), "height": (0, 0), "pile": (0, 0),
+         "keep": (1, 0), "go": (2, 1), "box": (0, 0), "held": (1, 0), "fill": (2, 0), "peg": (2, 0),
+         "pegged": (1, 0), "unpeg": (1, 0), "pegs": (0, 0), "goings": (0, 0), "boxes": (0, 0),
+         "pile_of": (1, 0), "place_of": (1, 0), "sweep": (0, 0), "picture": (0, 0)}
+OF_PIECES = {word: (0, 0) for word in ("made", "handed", "room", "moved", "ahead", "size", "paper",
+                                       "counts", "tidy")}
+METHODS = {("copies", "Copies"): DEEDS, ("pieces", "Pieces"): {**DEEDS, **OF_PIECES}}
 
 
 def parsed(path):
     return ast.parse(path.read_text(encoding="utf-8"))
 
 
+def functions(node):
+    """For each function of a module, or method of a class, how much it takes and may be left out."""
+    return {one.name: (len(one.args.args), len(one.args.defaults)) for one in node.body
+            if isinstance(one, ast.FunctionDef)}
+
+
+def classes(path):
+    return {node.name: node for node in parsed(path).body if isinstance(node, ast.ClassDef)}
+
+
 class Form(unittest.TestCase):
     def test_each_name_is_defined_in_its_file(self):
         for name, told in INTERFACE.items():
-            defined = {}
-            for node in parsed(PACKAGE / f"{name}.py").body:
-                if isinstance(node, ast.FunctionDef):
-                    defined[node.name] = len(node.args.args)
-                elif isinstance(node, ast.ClassDef):
-                    defined[node.name] = 0
+            path = PACKAGE / f"{name}.py"
+            defined = {word: many for word, (many, _) in functions(parsed(path)).items()}
+            for word, node in classes(path).items():
+                defined[word] = functions(node).get("__init__", (1, 0))[0] - 1
             for word, many in told.items():
                 with self.subTest(file=name, word=word):
                     self.assertEqual(defined.get(word), many)
+
+    def test_each_method_is_defined_in_its_class(self):
+        for (name, word), told in METHODS.items():
+            defined = functions(classes(PACKAGE / f"{name}.py")[word])
+            for method, (many, less) in told.items():
+                with self.subTest(file=name, method=method):
+                    self.assertEqual(defined.get(method), (many + 1, less))
 
     def test_lines_and_signs(self):
         for path in PACKAGE.glob("*.py"):
