@@ -2,9 +2,8 @@
 
 from manygoings.errors import NoName, NoPicture, NoPlace, NoThing, NoWorth
 from manygoings.pictures import is_count, is_name, is_picture
-from manygoings.rings import lost
 from manygoings.whole import WholePiles
-from manygoings.worths import is_number, is_thing, is_worth
+from manygoings.worths import is_number, is_thing, is_worth, things_of
 
 
 def check_name(name):
@@ -220,9 +219,36 @@ class Copies:
         self.check_going(g)
         return self.kept_goings[g][0]
 
+    def worths_in(self, thing, seen):
+        """The worths that a thing has, but those in what was seen of the piles."""
+        word, number = thing
+        if word == "box":
+            return [self.box_worths[number]]
+        return self.piles.unseen_of(self.kept_goings[number][1], seen)
+
+    def found_things(self):
+        """The things of the house to which a way leads, as a dict of True.
+
+        The search ends as soon as all are found. It goes through the piles as they are kept,
+        because a picture would lay each of them out as a whole.
+        """
+        many = len(self.box_worths) + len(self.kept_goings)
+        seen = {}
+        worths = self.piles.unseen(seen) + list(self.peg_worths.values())
+        found = {thing: True for thing in things_of(worths)}
+        fresh = list(found)
+        while len(fresh) > 0 and len(found) < many:
+            further = [worth for thing in fresh for worth in self.worths_in(thing, seen)]
+            fresh = [thing for thing in things_of(further) if thing not in found]
+            for thing in fresh:
+                found[thing] = True
+        return found
+
     def sweep(self):
         """Lets go of what is lost, and tells it."""
-        gone = lost(self.picture())
+        found = self.found_things()
+        things = [("box", b) for b in self.boxes()] + [("go", g) for g in self.goings()]
+        gone = [thing for thing in things if thing not in found]
         for thing in gone:
             self.drop(thing)
         self.settle()

@@ -95,6 +95,24 @@ class PiecedPiles:
             at = piece.under
         return [worth for part in reversed(parts) for worth in part]
 
+    def unseen_from(self, at, seen):
+        """The worths of the piece and of those beneath it that were not seen; they are seen now."""
+        worths = []
+        while at != NOTHING and at not in seen:
+            seen[at] = True
+            piece = self.pieces[at]
+            worths.extend(piece.worths)
+            at = piece.under
+        return worths
+
+    def unseen(self, seen):
+        """The worths of the running pile in pieces that were not seen."""
+        return self.unseen_from(self.running, seen)
+
+    def unseen_of(self, kept, seen):
+        """The worths of a kept pile in pieces that were not seen."""
+        return self.unseen_from(kept[0], seen)
+
     def height(self):
         """How many worths the running pile has."""
         return self.tall

@@ -29,6 +29,14 @@ class WholePiles:
         """The pile of which something is kept."""
         return list(kept)
 
+    def unseen(self, seen):
+        """The worths of the running pile."""
+        return self.worths
+
+    def unseen_of(self, kept, seen):
+        """The worths of a kept pile; whole piles share nothing that may have been seen."""
+        return kept
+
     def look(self, k):
         """The worth k beneath the top."""
         return self.worths[-1 - k]

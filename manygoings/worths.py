@@ -52,6 +52,12 @@ def show_pile(worths):
     return " ".join([show_worth(worth) for worth in worths])
 
 
+def check_text(text):
+    """Refuses what is no text."""
+    if type(text) is not str:
+        raise NoText("only a text writes something")
+
+
 def read_number(text):
     """The number from 0 on that a text of figures alone writes."""
     if not 1 <= len(text) <= MOST_FIGURES:
@@ -64,25 +70,28 @@ def read_number(text):
     return int(text)
 
 
-def read_worth(text):
-    """The worth that a text writes."""
-    if type(text) is not str:
-        raise NoText("only a text writes a worth")
-    sign = text[:1]
-    if sign in WORDS:
-        return (WORDS[sign], read_number(text[1:]))
-    if sign != "-":
-        return ("num", read_number(text))
+def read_signed(text):
+    """The number that a text of figures, perhaps with - ahead, writes."""
+    if text[:1] != "-":
+        return read_number(text)
     number = read_number(text[1:])
     if number == 0:
         raise NoText("0 has no sign ahead")
-    return ("num", -number)
+    return -number
+
+
+def read_worth(text):
+    """The worth that a text writes."""
+    check_text(text)
+    sign = text[:1]
+    if sign in WORDS:
+        return (WORDS[sign], read_number(text[1:]))
+    return ("num", read_signed(text))
 
 
 def read_pile(text):
     """The pile that a text writes, as a list."""
-    if type(text) is not str:
-        raise NoText("only a text writes a pile")
+    check_text(text)
     if text == "none":
         return []
     return [read_worth(part) for part in text.split(" ")]

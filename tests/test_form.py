@@ -16,6 +16,10 @@ INTERFACE = {
     "rings": {"reached": 1, "lost": 1, "is_way": 2, "is_shut": 2, "way_to": 2, "lost_ring": 1, "swept": 1},
     "copies": {"Copies": 0, "copied": 1},
     "pieces": {"Pieces": 1, "laid": 2},
+    "rows": {"is_program": 1},
+    "machine": {"run": 4},
+    "texts": {"show_program": 1, "show_picture": 1, "read_program": 1, "read_picture": 1},
+    "desk": {"Desk": 0},
 }
 # What each method takes beside its object, and how much of that may be left out.
 DEEDS = {"put": (1, 0), "take": (1, 1), "lift": (1, 0), "look": (1, 1), "height": (0, 0), "pile": (0, 0),
@@ -24,7 +28,8 @@ DEEDS = {"put": (1, 0), "take": (1, 1), "lift": (1, 0), "look": (1, 1), "height"
          "pile_of": (1, 0), "place_of": (1, 0), "sweep": (0, 0), "picture": (0, 0)}
 OF_PIECES = {word: (0, 0) for word in ("made", "handed", "room", "moved", "ahead", "size", "paper",
                                        "counts", "tidy")}
-METHODS = {("copies", "Copies"): DEEDS, ("pieces", "Pieces"): {**DEEDS, **OF_PIECES}}
+METHODS = {("copies", "Copies"): DEEDS, ("pieces", "Pieces"): {**DEEDS, **OF_PIECES},
+           ("desk", "Desk"): {"say": (1, 0), "house": (0, 0)}}
 
 
 def parsed(path):
@@ -58,6 +63,9 @@ class Form(unittest.TestCase):
             for method, (many, less) in told.items():
                 with self.subTest(file=name, method=method):
                     self.assertEqual(defined.get(method), (many + 1, less))
+
+    def test_of_a_run_the_first_row_may_be_left_out(self):
+        self.assertEqual(functions(parsed(PACKAGE / "machine.py"))["run"], (4, 1))
 
     def test_lines_and_signs(self):
         for path in PACKAGE.glob("*.py"):
